@@ -32,7 +32,8 @@ func (p *pieces) items() []Item {
 	stack := slices.Clone(p.after[api.Id{}])
 	for len(stack) > 0 {
 		item := stack[len(stack)-1]
-		_, item.Gone = p.gone[item.Id]
+		_, gone := p.gone[item.Id]
+		item.Gone = gone
 		list = append(list, item)
 		stack = append(stack[:len(stack)-1], p.after[item.Id]...)
 	}
